@@ -1,0 +1,1 @@
+"""Pastways: changes to a text, behind and past one another."""

@@ -1,0 +1,38 @@
+"""The interface: modules, names, arguments, and how the error classes stand under one another."""
+
+import importlib
+import inspect
+import unittest
+
+from pastways import errors
+
+FUNCTIONS = {
+    "pastways.changes": {"is_change": 1, "form": 1, "before": 1, "after": 1, "cost": 1},
+    "pastways.doing": {"fits": 2, "done": 2, "undone": 1, "nothing": 1, "then": 2, "all_then": 2},
+}
+BELOW = ("NoFit", "Clash", "NoPlace", "NoNumber", "NoText")
+
+
+class InterfaceTest(unittest.TestCase):
+    def test_each_function_is_there_with_its_arguments(self):
+        for module, names in FUNCTIONS.items():
+            for name, many in names.items():
+                with self.subTest(module=module, name=name):
+                    function = getattr(importlib.import_module(module), name)
+                    self.assertTrue(inspect.isfunction(function))
+                    self.assertEqual(len(inspect.signature(function).parameters), many)
+
+    def test_any_refusal_is_a_value_error(self):
+        self.assertEqual(errors.WayError.__bases__, (ValueError,))
+
+    def test_each_refusal_is_below_way_error_and_none_below_another(self):
+        for name in BELOW:
+            with self.subTest(name=name):
+                self.assertEqual(getattr(errors, name).__bases__, (errors.WayError,))
+
+    def test_the_refusals_are_five(self):
+        self.assertEqual(len({getattr(errors, name) for name in BELOW}), 5)
+
+
+if __name__ == "__main__":
+    unittest.main()
