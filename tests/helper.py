@@ -40,3 +40,33 @@ def is_in_form(change):
             and all(isinstance(part, tuple) and len(part) == 2 and part[1] for part in change)
             and all(left != right for left, right in pairs)
             and ("put", "drop") not in pairs)
+
+
+def laid_out(change):
+    """A tuple of two, straight from [1.2]: for each sign of the text that which is dropped there, None of a kept one;
+    and for each place of the text what is put there by the form, so behind all that is dropped up to a kept sign."""
+    dropped = []
+    puts = [""]
+    waiting = ""
+    for word, what in change:
+        if word == "put":
+            waiting += what
+            continue
+        for sign in [None] * what if word == "keep" else what:
+            if sign is None:
+                puts[-1] = waiting
+                waiting = ""
+            dropped.append(sign)
+            puts.append("")
+    puts[-1] = waiting
+    return dropped, puts
+
+
+def laid_together(dropped, puts):
+    """The change, sign by sign, of what laid_out tells; the last of what is put may be left out."""
+    parts = []
+    for place in range(len(dropped) + 1):
+        parts.extend([("put", sign) for sign in "".join(puts[place:place + 1])])
+        if place < len(dropped):
+            parts.append(("keep", 1) if dropped[place] is None else ("drop", dropped[place]))
+    return tuple(parts)

@@ -9,6 +9,10 @@ from pastways import errors
 FUNCTIONS = {
     "pastways.changes": {"is_change": 1, "form": 1, "before": 1, "after": 1, "cost": 1},
     "pastways.doing": {"fits": 2, "done": 2, "undone": 1, "nothing": 1, "then": 2, "all_then": 2},
+    "pastways.passing": {"past": 3, "merged": 2, "clashing": 2, "rows_past": 2},
+    "pastways.places": {"place_after": 3, "place_before": 3, "sign_after": 2, "touched": 1, "of_touched": 2},
+    "pastways.parts": {"drops_of": 1, "puts_of": 1, "joined": 2, "cut": 2, "only": 3, "singles": 1},
+    "pastways.making": {"least_cost": 2, "least_change": 2, "apart": 2},
 }
 BELOW = ("NoFit", "Clash", "NoPlace", "NoNumber", "NoText")
 

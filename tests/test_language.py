@@ -22,6 +22,8 @@ WORDS = re.compile(r"\b(type|typing|typing_extensions|enum|Enum|IntEnum|StrEnum|
                    r"|ABCMeta|namedtuple|NamedTuple|TypedDict|TYPE_CHECKING|abstractmethod)\b"
                    r"|dataclass|overload|contextmanager")
 NOWHERE = set("register mro elements open input version_info with_traceback add_note format format_map".split())
+WALKED = ("zip", "enumerate", "reversed", "range", "items", "keys", "values")
+WALKERS = ("list", "tuple", "dict", "sorted", "sum", "any", "all", "enumerate", "zip", "min", "max")
 NODES = (
     ast.Module, ast.ImportFrom, ast.alias, ast.FunctionDef, ast.arguments, ast.arg, ast.Lambda, ast.ClassDef,
     ast.Assign, ast.AugAssign, ast.If, ast.While, ast.For, ast.Return, ast.Break, ast.Continue, ast.Pass, ast.Raise,
@@ -118,6 +120,19 @@ class LanguageTest(unittest.TestCase):
         for name, node in nodes(ast.Attribute):
             is_own = node.attr in own or node.attr not in PYTHONS_METHODS
             self.fine("L17, L25", name, node, node.attr not in NOWHERE and (node.attr in METHODS or is_own))
+
+    def test_what_is_walked_at_once_is_not_kept(self):
+        for name, tree in trees():
+            fine = set()
+            for node in ast.walk(tree):
+                if isinstance(node, (ast.For, ast.comprehension)):
+                    fine.add(node.iter)
+                elif isinstance(node, ast.Call) and isinstance(node.func, ast.Name) and node.func.id in WALKERS:
+                    fine |= set(node.args if node.func.id == "zip" else node.args[:1])
+            for node in ast.walk(tree):
+                if isinstance(node, ast.Call):
+                    word = getattr(node.func, "id", getattr(node.func, "attr", ""))
+                    self.fine("L23", name, node, word not in WALKED or node in fine)
 
     def test_is_stands_beside_none_and_truths_alone(self):
         for name, node in nodes(ast.Compare):
