@@ -2,6 +2,8 @@
 
 import itertools
 
+from pastways.changes import form
+
 SMALL_PARTS = (("keep", 1), ("keep", 2), ("put", "a"), ("put", "b"), ("drop", "a"), ("drop", "ab"))
 
 
@@ -70,3 +72,26 @@ def laid_together(dropped, puts):
         if place < len(dropped):
             parts.append(("keep", 1) if dropped[place] is None else ("drop", dropped[place]))
     return tuple(parts)
+
+
+def led(one, other, is_first):
+    """What [3.1] tells of past, sign by sign, of changes of one length."""
+    gone, puts = laid_out(one)
+    lost, news = laid_out(other)
+    parts = []
+    for place in range(len(gone) + 1):
+        mine = [("put", sign) for sign in puts[place]]
+        kept = [("keep", 1) for sign in news[place]]
+        parts.extend(mine + kept if is_first else kept + mine)
+        if place < len(gone) and lost[place] is None:
+            parts.append(("keep", 1) if gone[place] is None else ("drop", gone[place]))
+    return form(tuple(parts))
+
+
+def small_rows(text, many):
+    """All rows of so many small changes, of two parts at most, that go on from the text."""
+    rows = [([], text)]
+    for step in range(many):
+        rows = [(row + [change], made_of(change, old))
+                for row, old in rows for change in small_changes(2) if made_of(change, old) is not None]
+    return [row for row, old in rows]

@@ -21,6 +21,9 @@ OWN_METHODS = METHODS | {"add", "discard"}
 WORDS = re.compile(r"\b(type|typing|typing_extensions|enum|Enum|IntEnum|StrEnum|Flag|IntFlag|Generic|Protocol|ABC"
                    r"|ABCMeta|namedtuple|NamedTuple|TypedDict|TYPE_CHECKING|abstractmethod)\b"
                    r"|dataclass|overload|contextmanager")
+OWN_VALUES = set("count index title find get join lower upper split strip copy add".split())
+NO_VALUES = set("items keys values pop update append clear extend insert remove reverse setdefault sort args encode"
+                " format".split())
 NOWHERE = set("register mro elements open input version_info with_traceback add_note format format_map".split())
 WALKED = ("zip", "enumerate", "reversed", "range", "items", "keys", "values")
 WALKERS = ("list", "tuple", "dict", "sorted", "sum", "any", "all", "enumerate", "zip", "min", "max")
@@ -44,6 +47,19 @@ def trees():
 
 def nodes(*kinds):
     return [(name, node) for name, tree in trees() for node in ast.walk(tree) if isinstance(node, kinds)]
+
+
+def methods(node):
+    return [row.name for row in node.body if isinstance(row, ast.FunctionDef)]
+
+
+def parents(tree):
+    return {below: node for node in ast.walk(tree) for below in ast.iter_child_nodes(node)}
+
+
+def called(node):
+    """The name that a node calls; an empty text, if it calls none."""
+    return node.func.id if isinstance(node, ast.Call) and isinstance(node.func, ast.Name) else ""
 
 
 class LanguageTest(unittest.TestCase):
@@ -108,6 +124,9 @@ class LanguageTest(unittest.TestCase):
                 self.assertFalse(hasattr(builtins, word), f"L8, L15: {name}, {word}")
                 self.assertNotIn(word, NOWHERE, f"L17: {name}")
             self.assertEqual(bound & set(drawn), set(), f"L15: {name}")
+            classes = {node.name for node in ast.walk(tree) if isinstance(node, ast.ClassDef)}
+            self.assertEqual(bound & classes, set(), f"L15: {name}")
+            self.assertLessEqual(classes, set(tops), f"L15: {name}")
             for node in ast.walk(tree):
                 if isinstance(node, ast.Name) and node.id not in bound | set(tops) | set(drawn):
                     self.fine("L8", name, node, node.id in BUILTINS)
@@ -120,6 +139,63 @@ class LanguageTest(unittest.TestCase):
         for name, node in nodes(ast.Attribute):
             is_own = node.attr in own or node.attr not in PYTHONS_METHODS
             self.fine("L17, L25", name, node, node.attr not in NOWHERE and (node.attr in METHODS or is_own))
+
+    def test_values_of_objects(self):
+        own = {row for name, node in nodes(ast.ClassDef) for row in methods(node)}
+        for name, node in nodes(ast.ClassDef):
+            self.assertEqual(len(methods(node)), len(set(methods(node))), f"L18: {name}, {node.name}")
+        for name, node in nodes(ast.Attribute):
+            if isinstance(node.ctx, ast.Store):
+                self.assertRegex(node.attr, r"\A[A-Za-z][A-Za-z0-9_]*\Z", f"L12: {name}")
+                self.fine("L18", name, node, node.attr not in own and isinstance(node.value, ast.Name))
+                is_free = node.attr in OWN_VALUES or node.attr not in PYTHONS_METHODS | NO_VALUES
+                self.fine("L26", name, node, is_free)
+
+    def test_methods_are_called_where_they_stand(self):
+        own = {row for name, node in nodes(ast.ClassDef) for row in methods(node)}
+        for name, tree in trees():
+            above = parents(tree)
+            for node in ast.walk(tree):
+                if isinstance(node, ast.Attribute) and node.attr in own | METHODS:
+                    self.fine("L25", name, node, isinstance(above[node], ast.Call) and above[node].func == node)
+
+    def test_python_methods_with_two_underscores(self):
+        for name, node in nodes(ast.ClassDef):
+            for row in node.body:
+                if isinstance(row, ast.FunctionDef) and row.name == "__init__":
+                    told = [below for below in ast.walk(row) if isinstance(below, ast.Return)]
+                    self.fine("L28", name, row, not told)
+
+    def test_sets_are_not_kept(self):
+        for name, tree in trees():
+            above = parents(tree)
+            for node in ast.walk(tree):
+                if called(node) in ("set", "frozenset"):
+                    around = above[node]
+                    while isinstance(around, ast.BinOp):
+                        around = above[around]
+                    is_asked = called(around) in ("sorted", "len") and not around.keywords
+                    self.fine("L24", name, node, is_asked or isinstance(around, ast.Compare))
+
+    def test_lists_and_dicts_of_the_top_are_only_read(self):
+        for name, tree in trees():
+            above = parents(tree)
+            tops = {node.targets[0].id: node.value for node in tree.body if isinstance(node, ast.Assign)}
+            kept = {word for word, value in tops.items() if isinstance(value, (ast.List, ast.Dict))}
+            for node in ast.walk(tree):
+                if isinstance(node, ast.Name) and isinstance(node.ctx, ast.Load) and node.id in kept:
+                    around = above[node]
+                    is_index = isinstance(around, ast.Subscript) and isinstance(around.ctx, ast.Load)
+                    is_get = isinstance(around, ast.Attribute) and around.attr == "get"
+                    is_asked = isinstance(around, (ast.Compare, ast.For, ast.comprehension))
+                    self.fine("L15", name, node, is_index or is_get or is_asked or called(around) in WALKERS + ("len",))
+
+    def test_keywords(self):
+        told = {"sorted": ("key", "reverse"), "min": ("key", "default"), "max": ("key", "default"), "sum": ("start",),
+                "enumerate": ("start",), "zip": ("strict",)}
+        for name, node in nodes(ast.Call):
+            for row in node.keywords:
+                self.fine("L22", name, node, row.arg in told.get(called(node), ()))
 
     def test_what_is_walked_at_once_is_not_kept(self):
         for name, tree in trees():

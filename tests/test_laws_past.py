@@ -2,25 +2,11 @@
 
 import unittest
 
-from helper import is_in_form, laid_out, made_of, small_changes
-from pastways.changes import before, form
+from helper import is_in_form, laid_out, led, small_changes, small_rows
+from pastways.changes import before
 from pastways.doing import all_then, then
 from pastways.errors import Clash, NoFit
 from pastways.passing import clashing, merged, past, rows_past
-
-
-def led(one, other, is_first):
-    """What [3.1] tells of past, sign by sign, of changes of one length."""
-    gone, puts = laid_out(one)
-    lost, news = laid_out(other)
-    parts = []
-    for place in range(len(gone) + 1):
-        mine = [("put", sign) for sign in puts[place]]
-        kept = [("keep", 1) for sign in news[place]]
-        parts.extend(mine + kept if is_first else kept + mine)
-        if place < len(gone) and lost[place] is None:
-            parts.append(("keep", 1) if gone[place] is None else ("drop", gone[place]))
-    return form(tuple(parts))
 
 
 def unlike(one, other):
@@ -68,14 +54,6 @@ class PastLawsTest(unittest.TestCase):
 
 
 class RowsLawsTest(unittest.TestCase):
-    def rows(self, text, many):
-        """All rows of so many small changes that go on from the text."""
-        rows = [([], text)]
-        for step in range(many):
-            rows = [(row + [change], made_of(change, old))
-                    for row, old in rows for change in small_changes(2) if made_of(change, old) is not None]
-        return [row for row, old in rows]
-
     def both_ways(self, many, ones, others):
         told = rows_past(ones, others)
         self.assertEqual([len(told[0]), len(told[1])], [len(ones), len(others)])
@@ -85,14 +63,14 @@ class RowsLawsTest(unittest.TestCase):
 
     def test_both_ways_come_to_one_form(self):
         for text in ("", "a", "ab"):
-            rows = [row for many in range(3) for row in self.rows(text, many)]
+            rows = [row for many in range(3) for row in small_rows(text, many)]
             for ones in rows:
                 for others in rows:
                     self.both_ways(len(text), ones, others)
 
     def test_each_step_past_each(self):
-        for ones in self.rows("a", 2):
-            for others in self.rows("a", 2):
+        for ones in small_rows("a", 2):
+            for others in small_rows("a", 2):
                 told = self.both_ways(1, ones, others)
                 first = past(others[0], ones[0], False)
                 second = past(others[1], past(ones[0], others[0], True), False)
