@@ -5,6 +5,7 @@ import itertools
 from pastways.changes import form
 
 SMALL_PARTS = (("keep", 1), ("keep", 2), ("put", "a"), ("put", "b"), ("drop", "a"), ("drop", "ab"))
+WRITTEN_SIGNS = [chr(number) for number in range(ord(" "), ord("~") + 1)] + ["\n"]
 
 
 def small_changes(most):
@@ -95,3 +96,39 @@ def small_rows(text, many):
         rows = [(row + [change], made_of(change, old))
                 for row, old in rows for change in small_changes(2) if made_of(change, old) is not None]
     return [row for row, old in rows]
+
+
+def owned_rows(text, many, names):
+    """All lists of so many owned small changes that go on from the text."""
+    return [list(zip(owns, row)) for row in small_rows(text, many) for owns in itertools.product(names, repeat=many)]
+
+
+def signs_of(text, rows):
+    """A tuple of two lists of tuples (sign, own), straight from [11.1]: those that stand there in the end, and those
+    that were dropped; None as the own of one from the first, and None for all, where a change does not fit."""
+    standing = [(sign, None) for sign in text]
+    dropped = []
+    for own, change in rows:
+        left = standing
+        standing = []
+        for word, what in change:
+            if word == "put":
+                standing += [(sign, own) for sign in what]
+                continue
+            for sign in range(what) if word == "keep" else what:
+                if not left or (word == "drop" and left[0][0] != sign):
+                    return None
+                (standing if word == "keep" else dropped).append(left[0])
+                left = left[1:]
+        if left:
+            return None
+    return standing, dropped
+
+
+def spoilt(text):
+    """All texts that are spoilt in one sign: one left out, put in, or another one in its place."""
+    for place in range(len(text) + 1):
+        for sign in WRITTEN_SIGNS:
+            yield text[:place] + sign + text[place:]
+            yield text[:place] + sign + text[place + 1:]
+        yield text[:place] + text[place + 1:]

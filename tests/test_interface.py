@@ -16,6 +16,9 @@ FUNCTIONS = {
     "pastways.deciding": {"alike": 2, "within": 2, "parting": 2, "all_fit": 1},
     "pastways.middles": {"meet": 2},
     "pastways.texts": {"change_text": 1, "read_change": 1, "rows_text": 1, "read_rows": 1},
+    "pastways.owners": {"owners": 2, "shares": 2, "lost": 2},
+    "pastways.squeezing": {"squeezed": 1},
+    "pastways.ownedtexts": {"owned_text": 1, "read_owned": 1},
 }
 # Of each class how many arguments make an object, and its methods.
 CLASSES = {
@@ -25,6 +28,10 @@ CLASSES = {
     "pastways.middles": {
         "Middle": (1, {"take": 3, "text": 0, "many": 0, "behind": 1}),
         "Hand": (2, {"do": 1, "send": 0, "take": 2, "text": 0, "is_still": 0}),
+    },
+    "pastways.ledgers": {
+        "Ledger": (1, {"write": 2, "fold": 0, "text": 0, "entries": 0, "owner_at": 1, "back": 0, "forth": 0,
+                       "counts": 0, "twin": 0}),
     },
 }
 BELOW = ("NoFit", "Clash", "NoPlace", "NoNumber", "NoText")

@@ -3,12 +3,11 @@
 import re
 import unittest
 
-from helper import small_changes
+from helper import WRITTEN_SIGNS, small_changes, spoilt
 from pastways.changes import is_change
 from pastways.errors import NoText
 from pastways.texts import change_text, read_change, read_rows, rows_text
 
-SIGNS = [chr(number) for number in range(ord(" "), ord("~") + 1)] + ["\n"]
 PART = r"(=[1-9][0-9]?|[+-][a-z ]{1,8})"
 WRITING = re.compile(rf"({PART}(/{PART}){{0,11}})?")
 
@@ -90,7 +89,7 @@ class ChangeTextTest(unittest.TestCase):
 
     def test_each_sign(self):
         for mark, word in (("+", "put"), ("-", "drop")):
-            for sign in SIGNS:
+            for sign in WRITTEN_SIGNS:
                 if sign in "abcdefghijklmnopqrstuvwxyz ":
                     self.assertEqual(read_change(mark + sign), ((word, sign),))
                 else:
@@ -125,15 +124,6 @@ class RowsTextTest(unittest.TestCase):
         self.assertEqual(read_rows("=1\n"), [(("keep", 1),)])
         read_rows("").append(None)
         self.assertEqual(read_rows(""), [])
-
-
-def spoilt(text):
-    """All texts that are spoilt in one sign: one left out, put in, or another one in its place."""
-    for place in range(len(text) + 1):
-        for sign in SIGNS:
-            yield text[:place] + sign + text[place:]
-            yield text[:place] + sign + text[place + 1:]
-        yield text[:place] + text[place + 1:]
 
 
 class TextLawsTest(unittest.TestCase):
@@ -176,8 +166,8 @@ class TextLawsTest(unittest.TestCase):
                 self.rows_or_none(other)
 
     def test_all_short_texts(self):
-        for first in [""] + SIGNS:
-            for second in SIGNS:
+        for first in [""] + WRITTEN_SIGNS:
+            for second in WRITTEN_SIGNS:
                 self.change_or_none(first + second)
                 self.rows_or_none(first + second)
         for text in NO_ROWS + NO_CHANGE:
